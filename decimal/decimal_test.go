@@ -344,6 +344,8 @@ func TestP1_5Div(t *testing.T) {
 		{N{Int: 1}, N{Int: api.MaxNumber, Scale: 12}, 12, N{Int: 1000000000, Scale: 12}, api.OK},
 		{N{Int: 1000}, N{Int: 1, Scale: 12}, 0, N{}, api.ErrOverflow}, {N{Int: -1000}, N{Int: 1, Scale: 12}, 0, N{}, api.ErrOverflow},
 		{N{Int: api.MaxNumber}, N{Int: 1, Scale: 12}, 12, N{}, api.ErrOverflow}, {N{Int: 1}, N{Int: 1, Scale: 12}, 12, N{}, api.ErrOverflow},
+		// 18446745 * 10^12 is a little more than 2^64.
+		{N{Int: api.MaxNumber, Scale: 12}, N{Int: 18446745}, 0, N{}, api.OK}, {N{Int: -api.MaxNumber, Scale: 12}, N{Int: 18446745}, 0, N{}, api.OK},
 		// The products of these Ints and 10^24 are a little more than multiples of 2^128.
 		{N{Int: 340282366920939}, N{Int: api.MaxNumber, Scale: 12}, 12, N{}, api.ErrOverflow}, {N{Int: 680564733841877}, N{Int: -api.MaxNumber, Scale: 12}, 12, N{}, api.ErrOverflow},
 		{N{Int: api.MaxNumber}, N{Int: 1}, 0, N{Int: api.MaxNumber}, api.OK}, {N{Int: api.MaxNumber}, N{Int: 9, Scale: 1}, 0, N{}, api.ErrOverflow},
