@@ -349,6 +349,9 @@ func TestP1_5Div(t *testing.T) {
 		// The products of these Ints and 10^24 are a little more than multiples of 2^128.
 		{N{Int: 340282366920939}, N{Int: api.MaxNumber, Scale: 12}, 12, N{}, api.ErrOverflow}, {N{Int: 680564733841877}, N{Int: -api.MaxNumber, Scale: 12}, 12, N{}, api.ErrOverflow},
 		{N{Int: api.MaxNumber}, N{Int: 1}, 0, N{Int: api.MaxNumber}, api.OK}, {N{Int: api.MaxNumber}, N{Int: 9, Scale: 1}, 0, N{}, api.ErrOverflow},
+		// These quotients are a little less than 2^64 and are rounded to it.
+		{N{Int: 15047865020907}, N{Int: 8157463973468, Scale: 12}, 7, N{}, api.ErrOverflow}, {N{Int: -15047865020907}, N{Int: 8157463973468, Scale: 7}, 12, N{}, api.ErrOverflow},
+		{N{Int: 414593683177673}, N{Int: 224751686, Scale: 1}, 12, N{}, api.ErrOverflow}, {N{Int: 414593683177673}, N{Int: -224751686, Scale: 12}, 1, N{}, api.ErrOverflow},
 		{N{Int: 1}, N{}, 2, N{}, api.ErrDivide}, {N{}, N{Scale: 12}, 0, N{}, api.ErrDivide}, {N{Int: api.MaxNumber}, N{}, 12, N{}, api.ErrDivide},
 		{N{Int: 1}, N{}, 13, N{}, api.ErrRange}, {N{Int: 1}, N{Int: 1}, 13, N{}, api.ErrRange}, {N{Int: 1}, N{Int: 1}, -1, N{}, api.ErrRange},
 		{N{Int: 1}, N{Int: 1}, math.MaxInt, N{}, api.ErrRange}, {N{Int: 1}, N{Int: 1}, math.MinInt, N{}, api.ErrRange},
@@ -367,16 +370,80 @@ func TestP1_5Div(t *testing.T) {
 	}
 }
 
+// checkDiv compares a quotient with that of package big.
+func checkDiv(t *testing.T, a, b N, scale int) {
+	t.Helper()
+	x := new(big.Int).Mul(big.NewInt(int64(a.Int)), power(b.Scale+scale))
+	y := new(big.Int).Mul(big.NewInt(int64(b.Int)), power(a.Scale))
+	want, f := fitted(halfEven(x, y), scale)
+	if n, e := decimal.Div(a, b, scale); n != want || e != f {
+		t.Fatalf("Div(%v, %v, %d) = %v, %d; want %v, %d", a, b, scale, n, e, want, f)
+	}
+}
+
+// nearest returns the convergents of the continued fraction x / y whose two parts are Ints of numbers, without those with 0: no other fractions with such parts are as near to x / y.
+func nearest(x, y *big.Int) (l [][2]int) {
+	limit := big.NewInt(api.MaxNumber)
+	p, q := [2]*big.Int{new(big.Int), big.NewInt(1)}, [2]*big.Int{big.NewInt(1), new(big.Int)}
+	for y.Sign() != 0 {
+		whole, rest := new(big.Int).QuoRem(x, y, new(big.Int))
+		for _, part := range []*[2]*big.Int{&p, &q} {
+			next := new(big.Int).Mul(whole, part[1])
+			part[0], part[1] = part[1], next.Add(next, part[0])
+		}
+		if p[1].Cmp(limit) > 0 || q[1].Cmp(limit) > 0 {
+			break
+		}
+		if p[1].Sign() != 0 {
+			l = append(l, [2]int{int(p[1].Int64()), int(q[1].Int64())})
+		}
+		x, y = y, rest
+	}
+	return l
+}
+
+// eachScales calls f for all scales with which an Int divided by another one is multiplied by a power of ten.
+func eachScales(exponent int, f func(a, b, scale int)) {
+	for a := range api.MaxScale + 1 {
+		for b := range api.MaxScale + 1 {
+			if scale := exponent + a - b; scale >= 0 && scale <= api.MaxScale {
+				f(a, b, scale)
+			}
+		}
+	}
+}
+
+func TestP1_5DivNearLimits(t *testing.T) {
+	two := func(n uint) *big.Int { return new(big.Int).Lsh(big.NewInt(1), n) }
+	// The doubles of quotients at which rounding, the limit or the width of words show.
+	doubles := []*big.Int{big.NewInt(1), big.NewInt(3), big.NewInt(2*api.MaxNumber - 1), big.NewInt(2*api.MaxNumber + 1), big.NewInt(2*api.MaxNumber + 2)}
+	for _, n := range []uint{31, 32, 50, 53, 62, 63, 64, 65, 127, 128} {
+		for _, d := range []int64{-1, 0, 1} {
+			doubles = append(doubles, new(big.Int).Add(two(n+1), big.NewInt(d)))
+		}
+	}
+	for exponent := -api.MaxScale; exponent <= 2*api.MaxScale; exponent++ {
+		for _, d := range doubles {
+			x, y := d, big.NewInt(2)
+			if exponent >= 0 {
+				y = new(big.Int).Mul(y, power(exponent))
+			} else {
+				x = new(big.Int).Mul(x, power(-exponent))
+			}
+			for _, c := range nearest(x, y) {
+				eachScales(exponent, func(a, b, scale int) {
+					checkDiv(t, N{Int: c[0], Scale: a}, N{Int: c[1], Scale: b}, scale)
+					checkDiv(t, N{Int: -c[0], Scale: a}, N{Int: c[1], Scale: b}, scale)
+				})
+			}
+		}
+	}
+}
+
 func TestP1_5DivExact(t *testing.T) {
 	check := func(a, b N, scale int) {
-		if b.Int == 0 {
-			return
-		}
-		x := new(big.Int).Mul(big.NewInt(int64(a.Int)), power(b.Scale+scale))
-		y := new(big.Int).Mul(big.NewInt(int64(b.Int)), power(a.Scale))
-		want, f := fitted(halfEven(x, y), scale)
-		if n, e := decimal.Div(a, b, scale); n != want || e != f {
-			t.Fatalf("Div(%v, %v, %d) = %v, %d; want %v, %d", a, b, scale, n, e, want, f)
+		if b.Int != 0 {
+			checkDiv(t, a, b, scale)
 		}
 	}
 	l := numbers(0, 1, 5, 12)

@@ -85,9 +85,13 @@ func multiply(high, low, factor uint64) (productHigh, productLow uint64, ok bool
 	return middle, last, over == 0 && carry == 0
 }
 
-// divideEven divides an integer of 128 bits, whose upper half is less than y, and rounds half to even.
+// divideEven divides an integer of 128 bits, whose upper half is less than y, rounds half to even, and reports whether the result is at most api.MaxNumber.
 func divideEven(high, low, y uint64) (q uint64, ok bool) {
 	q, rest := bits.Div64(high, low, y)
+	// Rounding never makes a quotient less, and one of 2^64-1 would become 0.
+	if q > api.MaxNumber {
+		return 0, false
+	}
 	// Twice the rest might not have room in 64 bits, so it is compared with what lacks to y.
 	lack := y - rest
 	if rest > lack || rest == lack && q%2 == 1 {
