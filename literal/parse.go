@@ -116,7 +116,7 @@ func (p *parser) checkName(t token) {
 // beginsValue reports whether a token can begin a value.
 func (t token) beginsValue() bool {
 	switch t.kind {
-	case word, number, quoted, bytes:
+	case word, number, quotedText, bytes:
 		return true
 	}
 	return t.is("[") || t.is("{")
@@ -133,7 +133,7 @@ func (p *parser) readValue(level int) api.Value {
 		return p.wordValue(level)
 	case p.next.kind == number:
 		return numberValue(p.take())
-	case p.next.kind == quoted:
+	case p.next.kind == quotedText:
 		return value.Text(p.take().text)
 	case p.next.kind == bytes:
 		return value.Bytes(p.take().text)
@@ -205,7 +205,7 @@ func (p *parser) variantValue(name token, level int) api.Value {
 
 // moment reads a string whose number a function of package calendar returns.
 func (p *parser) moment(parse func(s string) (int, api.Errno)) int {
-	t := p.takeKind(quoted)
+	t := p.takeKind(quotedText)
 	n, e := parse(t.text)
 	p.fail(t.at, e)
 	return n

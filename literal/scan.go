@@ -6,6 +6,7 @@ import (
 	"manifold/api"
 	"manifold/charset"
 	"manifold/decimal"
+	"manifold/quoted"
 )
 
 // kind is a kind of tokens.
@@ -15,7 +16,7 @@ const (
 	end kind = iota
 	word
 	number
-	quoted // a string
+	quotedText
 	bytes
 	symbol
 )
@@ -26,8 +27,6 @@ const (
 	twoDots = ".."
 	// decimalMark stands behind a number without a period that is a Decimal.
 	decimalMark = "d"
-	// mostDigits is the greatest number of digits of an escape.
-	mostDigits = 6
 )
 
 // token is a token that begins at an offset. Its text is what is written of words and symbols, and what is denoted by strings and bytes.
@@ -62,7 +61,7 @@ func (p *parser) scan() token {
 	case isDigit(p.s[begin]) || p.s[begin] == '-':
 		return p.numberToken()
 	case p.s[begin] == '"':
-		return token{kind: quoted, at: begin, text: p.stringToken()}
+		return token{kind: quotedText, at: begin, text: p.stringToken()}
 	case strings.HasPrefix(p.s[begin:], twoDots):
 		p.at += len(twoDots)
 		return token{kind: symbol, at: begin, text: twoDots}
@@ -131,11 +130,11 @@ func (p *parser) stringToken() string {
 				p.fail(begin, api.ErrText)
 			}
 			return text.String()
-		case isControl(c):
+		case quoted.IsControl(c):
 			p.fail(p.at, api.ErrByte)
 			return ""
 		case c == '\\' && p.at+1 < len(p.s):
-			meant, size, e := escape(p.s[p.at:])
+			meant, size, e := quoted.Escape(p.s[p.at:])
 			if e != api.OK {
 				p.fail(p.at, e)
 				return ""
@@ -151,73 +150,19 @@ func (p *parser) stringToken() string {
 	return ""
 }
 
-// escape returns what the escape at the beginning of a string means, and its number of bytes. The string has a backslash and at least one byte more.
-func escape(s string) (meant string, size int, e api.Errno) {
-	switch s[1] {
-	case '"', '\\':
-		return s[1:2], 2, api.OK
-	case 'n':
-		return "\n", 2, api.OK
-	case 'r':
-		return "\r", 2, api.OK
-	case 't':
-		return "\t", 2, api.OK
-	}
-	inside, opened := strings.CutPrefix(s, `\u{`)
-	point, digits := leadingHex(inside)
-	if !opened || digits == 0 || digits > mostDigits || !strings.HasPrefix(inside[digits:], "}") {
-		return "", 0, api.ErrSyntax
-	}
-	meant, e = charset.Encode(point)
-	if e != api.OK {
-		return "", 0, api.ErrText
-	}
-	return meant, len(`\u{}`) + digits, api.OK
-}
-
-// leadingHex returns the number that the hexadecimal digits at the beginning of a string denote, and how many they are; it looks at no more than at one that is too many.
-func leadingHex(s string) (n, digits int) {
-	for digits < len(s) && digits <= mostDigits {
-		d := hexDigit(s[digits])
-		if d < 0 {
-			break
-		}
-		n = n<<4 | d
-		digits++
-	}
-	return n, digits
-}
-
-// hexDigit returns the value of a hexadecimal digit, or -1.
-func hexDigit(c byte) int {
-	if c >= 'A' && c <= 'F' {
-		c += 'a' - 'A'
-	}
-	return strings.IndexByte(hexDigits, c)
-}
-
 // bytesToken reads bytes, and returns them.
 func (p *parser) bytesToken() string {
-	var text strings.Builder
 	begin := p.at
-	high := -1 // the first digit of a byte whose second one has not come yet
-	for p.at = begin + len(`x"`); p.at < len(p.s); p.at++ {
-		c := p.s[p.at]
-		d := hexDigit(c)
-		switch {
-		case c == '"' && high < 0:
-			p.at++
-			return text.String()
-		case d < 0:
-			p.fail(p.at, api.ErrSyntax)
-			return ""
-		case high < 0:
-			high = d
-		default:
-			text.WriteByte(byte(high<<4 | d))
-			high = -1
-		}
+	p.at += len(`x"`)
+	meant, at, e := quoted.Bytes(p.s[p.at:])
+	p.at += at
+	switch e {
+	case api.OK:
+		p.at++
+	case api.ErrTruncated:
+		p.fail(begin, api.ErrShort)
+	default:
+		p.fail(p.at, e)
 	}
-	p.fail(begin, api.ErrShort)
-	return ""
+	return meant
 }

@@ -86,9 +86,9 @@ func (p *parser) unscaled(scale int) int {
 func (p *parser) textType(level int) api.Type {
 	t := api.Type{Kind: api.Text}
 	p.expect("(")
-	if p.next.kind == quoted {
+	if p.next.kind == quotedText {
 		for further := true; further; further = p.accept("|") {
-			t.Words = append(t.Words, p.takeKind(quoted).text)
+			t.Words = append(t.Words, p.takeKind(quotedText).text)
 		}
 	} else {
 		t.Min, t.Max = p.bounds(p.integer)

@@ -7,6 +7,7 @@ import (
 	"manifold/api"
 	"manifold/calendar"
 	"manifold/decimal"
+	"manifold/quoted"
 	"manifold/schema"
 )
 
@@ -193,7 +194,7 @@ func Quote(s string) string {
 			text.WriteString(`\r`)
 		case c == '\t':
 			text.WriteString(`\t`)
-		case isControl(c):
+		case quoted.IsControl(c):
 			text.WriteString(`\u{` + strconv.FormatInt(int64(c), 16) + `}`)
 		default:
 			text.WriteByte(c)
@@ -202,9 +203,6 @@ func Quote(s string) string {
 	text.WriteByte('"')
 	return text.String()
 }
-
-// isControl reports whether a byte cannot stand in a string as it is.
-func isControl(c byte) bool { return c < ' ' || c == '\x7F' }
 
 // QuoteBytes returns the text of bytes.
 func QuoteBytes(s string) string {
