@@ -460,3 +460,52 @@ func expectIndependence(t *testing.T, r *rand.Rand, e E, env T, v, want V, x api
 		t.Fatalf("Eval(%v) = %v, %d for %v, and %v, %d for %v", e, got, y, other, want, x, v)
 	}
 }
+
+// damaged returns a value in which anything may be wrong.
+func damaged(r *rand.Rand, v V) V {
+	v = value.Clone(v)
+	x := &v
+	for r.Intn(4) > 0 {
+		if n := len(x.Fields); n > 0 {
+			x = &x.Fields[r.Intn(n)].Value
+		} else if n := len(x.List); n > 0 {
+			x = &x.List[r.Intn(n)]
+		}
+	}
+	odd := []int{-1, 0, 1, 7, 13, most + 1, -1 << 63, 1<<63 - 1}
+	switch r.Intn(6) {
+	case 0:
+		x.Kind = r.Intn(13) - 1
+	case 1:
+		x.Int = odd[r.Intn(len(odd))]
+	case 2:
+		x.Scale = odd[r.Intn(len(odd))]
+	case 3:
+		x.Text = []string{"\xFF", "a\xC3", strings.Repeat("x", 3000)}[r.Intn(3)]
+	case 4:
+		x.List = append(x.List, V{}, value.Int(1))
+	case 5:
+		x.Fields = append(x.Fields, field("", V{}), field("b", value.Text("x")))
+	}
+	return v
+}
+
+// TestP16_3DamagedValues checks only that there is an end: what is returned for such environments is not specified.
+func TestP16_3DamagedValues(t *testing.T) {
+	r := rand.New(rand.NewSource(3))
+	for range 100 {
+		env := someEnv(r)
+		m := maker{r, pathsIn(env)}
+		v := someFit(r, env)
+		for range 100 {
+			v := damaged(r, v)
+			for range r.Intn(3) {
+				v = damaged(r, v)
+			}
+			v.Kind = api.Record
+			if x, e := expr.Eval(m.make(1+r.Intn(8), 1+r.Intn(5)), v); e != api.OK && !value.IsNull(x) {
+				t.Fatal(x, e)
+			}
+		}
+	}
+}
